@@ -1,0 +1,1 @@
+"""Cards turned and cut: rows, handlings, and what turning two and cutting leads to."""
