@@ -56,6 +56,15 @@ class Places(unittest.TestCase):
         self.check(4, "every everything", 6)
         self.check(4, "cut 1 not", 6)
 
+    def test_letters_and_digits_stand_together(self):
+        for letter in "abcdefghijklmnopqrstuvwxyz":
+            self.check(4, f"cut{letter} 1", 0)
+            self.check(4, f"cut 1 {letter}every", 6)
+            self.check(4, f"cut 1{letter}", 5)
+        for digit in "0123456789":
+            self.check(52, f"cut 9{digit}", 4)
+            self.check(52, f"cut 0{digit}", 4)
+
     def test_wrong_bytes(self):
         for byte in range(256):
             if byte in (10, 32) or 97 <= byte <= 122 or 48 <= byte <= 57 or byte in (40, 41, 59):
