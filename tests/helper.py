@@ -11,11 +11,14 @@ from turnedcards.deck import answers
 
 NUMBERS = {
     "load": 0, "row": 1, "act": 2, "shape": 3, "hand": 4, "order": 5, "tame": 6,
-    "can": 7, "way": 8, "walk": 9, "count": 10, "rank": 11,
+    "can": 7, "way": 8, "walk": 9, "count": 10, "rank": 11, "nth": 12, "least": 13, "fate": 14, "holds": 15, "sure": 16,
+    "fold": 17, "alike": 18, "group": 19, "size": 20, "member": 21, "orbit": 22,
 }
-WITHOUT_LIST = ("row", "count")
+OWN_NUMBERS = {"fold": 2, "alike": 2, "orbit": 1}
+WITHOUT_LIST = ("row", "count", "fate", "alike", "size", "orbit")
 WITH_TEXT = ("act", "shape", "hand", "order", "tame")
-WITH_ROW = ("can", "way", "rank")
+WITH_CONDITION = ("holds", "sure")
+WITH_ROW = ("can", "way", "rank", "least")
 
 
 def text(words):
@@ -26,12 +29,14 @@ def text(words):
 
 
 def flat(calls):
-    """Calls such as ("act", "turn 2") as the one list that is handed in."""
+    """Calls such as ("act", "turn 2") or ("fold", 2, 2, [0, 1]) as the one list that is handed in."""
     numbers = []
     for call in calls:
+        own = OWN_NUMBERS.get(call[0], 0)
         numbers.append(NUMBERS[call[0]])
+        numbers.extend(call[1:1 + own])
         if call[0] not in WITHOUT_LIST:
-            told = text(call[1])
+            told = text(call[1 + own])
             numbers.append(len(told))
             numbers.extend(told)
     return numbers
@@ -65,14 +70,25 @@ def run_many(row, calls):
     return found
 
 
-def on(row, name, told=None):
+def on(row, name, *told):
     """The answer of one call on a deck with this row."""
-    call = (name,) if name in WITHOUT_LIST else (name, told)
-    return last(("load", row), call)
+    return last(("load", row), (name, *told))
 
 
 def rising(size):
     return list(range(1, size + 1))
+
+
+def decimal(answer):
+    """The number that stands behind the 0 in decimal."""
+    assert answer[0] == 0
+    digits = bytes(answer[1:]).decode("ascii")
+    assert digits == str(int(digits))
+    return int(digits)
+
+
+def random_row(chance, size):
+    return [card * chance.choice((1, -1)) for card in chance.sample(rising(size), size)]
 
 
 def all_rows(size):
@@ -98,6 +114,41 @@ def deal(row, number):
 
 def every(row):
     return [-card if place % 2 == 1 else card for place, card in enumerate(row)]
+
+
+def random_end(chance, row):
+    """Some row that can be come to, by many cuts and turns."""
+    size = len(row)
+    here = row
+    for step in range(6 * size):
+        here = cut(here, chance.randrange(size))
+        if size > 1:
+            here = turn(here, 2)
+    return cut(here, chance.randrange(size))
+
+
+def random_handling(chance, size, depth):
+    """A text without faults, spaced anyhow."""
+    parts = []
+    for step in range(chance.randrange(4)):
+        word = chance.choice(("cut", "turn", "deal", "every", "back", "times"))
+        if word in ("cut", "turn", "deal"):
+            parts.append(word + chance.choice(("", " ", "\n ")) + str(chance.randrange(size + 1)))
+        elif word == "every" or depth == 0:
+            parts.append("every")
+        else:
+            head = "back" if word == "back" else str(chance.choice((0, 1, 2, 3, 7, 100, 10 ** 12 - 1, 10 ** 12)))
+            parts.append(head + chance.choice(("(", " ( ", "\n(")) + random_handling(chance, size, depth - 1) + ")")
+    return joined(chance, parts)
+
+
+def joined(chance, parts):
+    """The parts with or without something between, so that none runs into the next one."""
+    words = ""
+    for part in parts:
+        together = words[-1:].isalpha() and part[0].isalpha() or words[-1:].isdigit() and part[0].isdigit()
+        words += chance.choice((" ", "\n") if together else ("", " ", "\n")) + part
+    return words
 
 
 def come_to(row):
@@ -156,8 +207,8 @@ class PlainReader:
             raise Fault(len(self.words))
         raise Fault(self.found[self.at][1])
 
-    def number(self, most):
-        if not re.fullmatch(r"0|[1-9][0-9]{0,12}", self.peek()) or int(self.peek()) > most:
+    def number(self, most, least=0):
+        if not re.fullmatch(r"0|[1-9][0-9]{0,12}", self.peek()) or not least <= int(self.peek()) <= most:
             self.fault()
         self.at += 1
         return int(self.found[self.at - 1][0])
@@ -174,7 +225,7 @@ class PlainReader:
 
     def handlings(self, depth):
         steps = []
-        while self.peek() not in ("", ")"):
+        while self.peek() not in ("", ")") and not (self.peek() == ";" and depth == 0):
             word = self.peek()
             if word in ("cut", "turn", "deal"):
                 self.at += 1
@@ -195,6 +246,109 @@ class PlainReader:
         if self.peek() != "":
             self.fault()
         return steps
+
+    def several(self):
+        found = [self.handlings(0)]
+        while self.peek() == ";":
+            self.at += 1
+            found.append(self.handlings(0))
+        if self.peek() != "":
+            self.fault()
+        return found
+
+
+class PlainCondition(PlainReader):
+    """Reads a condition's text by going down; what it finds is asked of a row by asked."""
+
+    def whole(self):
+        found = self.either(0)
+        if self.peek() != "":
+            self.fault()
+        return found
+
+    def either(self, depth):
+        found = self.both(depth)
+        while self.peek() == "or":
+            self.at += 1
+            found = ("or", found, self.both(depth))
+        return found
+
+    def both(self, depth):
+        found = self.claim(depth)
+        while self.peek() == "and":
+            self.at += 1
+            found = ("and", found, self.claim(depth))
+        return found
+
+    def claim(self, depth):
+        word = self.peek()
+        if word in ("not", "(") and depth == 20 or word not in ("not", "(", "up", "even", "like"):
+            self.fault()
+        self.at += 1
+        if word == "not":
+            return ("not", self.claim(depth + 1))
+        if word == "(":
+            inner = self.either(depth + 1)
+            if self.peek() != ")":
+                self.fault()
+            self.at += 1
+            return inner
+        cards = [self.number(self.size, 1)]
+        if word == "like":
+            cards.append(self.number(self.size, 1))
+        return (word, *cards)
+
+
+def asked(found, row):
+    """Whether what a PlainCondition has found holds of the row."""
+    word, first = found[0], found[1]
+    if word == "up":
+        return -first in row
+    if word == "even":
+        return [abs(card) for card in row].index(first) % 2 == 0
+    if word == "like":
+        return (-first in row) == (-found[2] in row)
+    if word == "not":
+        return not asked(first, row)
+    if word == "and":
+        return asked(first, row) and asked(found[2], row)
+    return asked(first, row) or asked(found[2], row)
+
+
+def cards_in(found):
+    """The unlike cards that a condition names."""
+    if found[0] in ("up", "even", "like"):
+        return set(found[1:])
+    return set().union(*[cards_in(part) for part in found[1:]])
+
+
+def plain_holds(words, row):
+    """What holds must answer on this row."""
+    if len(words) > 600:
+        return [-7]
+    try:
+        found = PlainCondition(words, len(row)).whole()
+    except Fault as fault:
+        return [-1000 - fault.place]
+    return [0, 1 if asked(found, row) else 0]
+
+
+def random_condition(chance, cards, depth):
+    """A condition's text without faults about some of the cards, spaced anyhow."""
+    parts = []
+    for step in range(chance.choice((1, 1, 2, 2, 3))):
+        if parts:
+            parts.append(chance.choice(("and", "or")))
+        if chance.randrange(3) == 0:
+            parts.append("not")
+        if depth > 0 and chance.randrange(2) == 0:
+            parts += ["(", random_condition(chance, cards, depth - 1), ")"]
+        else:
+            word = chance.choice(("up", "even", "like"))
+            parts += [word, str(chance.choice(cards))]
+            if word == "like":
+                parts.append(str(chance.choice(cards)))
+    return joined(chance, parts)
 
 
 def plain_back(steps, row):

@@ -10,10 +10,13 @@ class Places(unittest.TestCase):
     def check(self, size, words, place):
         for name in WITH_TEXT:
             self.assertEqual(on(rising(size), name, words), [-1000 - place], (name, size, words))
+        if 59 not in text(words):
+            self.assertEqual(on(rising(size), "group", words), [-1000 - place], (size, words))
 
     def check_right(self, size, words):
         for name in WITH_TEXT:
             self.assertEqual(on(rising(size), name, words)[0], 0, (name, size, words))
+        self.assertEqual(on(rising(size), "group", words), [0, 1] if size <= 8 else [-6], (size, words))
 
     def test_text_that_ends_too_early(self):
         for words in ("cut", "cut ", "turn\n", "deal  ", "back", "3", "3 ", "3 (", "back (", "3 ( cut 1",

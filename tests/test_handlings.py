@@ -5,39 +5,11 @@ import random
 import unittest
 
 from tests.helper import (
-    PlainReader, all_rows, come_to, on, plain_act, plain_done, rising, run, run_many, text,
+    PlainReader, all_rows, come_to, on, plain_act, plain_done, random_handling, random_row, rising, run, run_many, text,
 )
 
 SIZES = (1, 2, 3, 4, 5, 8, 51, 52)
 MANY = 10 ** 12
-
-
-def random_row(chance, size):
-    return [card * chance.choice((1, -1)) for card in chance.sample(rising(size), size)]
-
-
-def random_handling(chance, size, depth):
-    """A text without faults, spaced anyhow."""
-    parts = []
-    for step in range(chance.randrange(4)):
-        word = chance.choice(("cut", "turn", "deal", "every", "back", "times"))
-        if word in ("cut", "turn", "deal"):
-            parts.append(word + chance.choice(("", " ", "\n ")) + str(chance.randrange(size + 1)))
-        elif word == "every" or depth == 0:
-            parts.append("every")
-        else:
-            head = "back" if word == "back" else str(chance.choice((0, 1, 2, 3, 7, 100, MANY - 1, MANY)))
-            parts.append(head + chance.choice(("(", " ( ", "\n(")) + random_handling(chance, size, depth - 1) + ")")
-    return joined(chance, parts)
-
-
-def joined(chance, parts):
-    """The parts with or without something between, so that none runs into the next one."""
-    words = ""
-    for part in parts:
-        together = words[-1:].isalpha() and part[0].isalpha() or words[-1:].isdigit() and part[0].isdigit()
-        words += chance.choice((" ", "\n") if together else ("", " ", "\n")) + part
-    return words
 
 
 class Steps(unittest.TestCase):

@@ -10,8 +10,14 @@ from turnedcards.deck import answers
 def some_calls():
     return flat([
         ("row",), ("load", [4, -2, 1, 3]), ("act", "turn 2 3(cut 1)"), ("shape", "back(every)"), ("hand", "deal 3"),
-        ("order", "turn 1 cut 1"), ("tame", "turn 1"), ("can", [1, 2, 3, 4]), ("way", [4, -2, 1, 3]), ("walk", [1, 2, 3]),
-        ("count",), ("rank", [4, -2, 1, 3]), ("rank", [1]), ("act", "cut 9"), ("walk", [9]), ("load", []), ("row",),
+        ("order", "turn 1 cut 1"), ("tame", "turn 1"), ("can", [1, 2, 3, 4]), ("way", [4, -2, 1, 3]),
+        ("walk", [1, 2, 3]), ("count",), ("rank", [4, -2, 1, 3]), ("rank", [1]), ("act", "cut 9"), ("walk", [9]),
+        ("nth", "17"), ("nth", "99"), ("least", [4, -2, 1, 3]), ("least", [2, 1]), ("fate",),
+        ("holds", "up 1 or even 2"), ("holds", ""), ("sure", "like 1 2"), ("sure", "up 1 or not up 1"), ("size",),
+        ("orbit", 1),
+        ("group", "turn 2;cut 1"), ("size",), ("member", [1, 2, 3, 4]), ("orbit", 3), ("orbit", 5),
+        ("fold", 2, 2, [0, 1, 2, 1]), ("fold", 2, 2, [0]), ("fold", 3, 2, []), ("alike", 2, 2), ("alike", 0, 4),
+        ("row",), ("load", []), ("size",), ("load", [1, 2, -3]), ("member", [1, 2, 3]), ("row",),
     ])
 
 
@@ -26,6 +32,22 @@ class Form(unittest.TestCase):
                          [2, 0, 2, 3, 0, -2, -1, 3, 0, -1, -2, 1, 0])
         self.assertEqual(answers([0, 2, 1, 2, 4, 0, 5, 0, 6, 0, 7, 2, 2, 1, 8, 2, 2, 1, 11, 2, 2, 1]),
                          [2, 0, 2, 5, 0, 0, 0, 1, 0, 2, 0, 1, 2, 0, 1, 2, 0, 1, 2, 0, 1, 2, 0, 50])
+
+    def test_calls_with_whole_numbers_of_their_own(self):
+        self.assertEqual(answers([0, 2, 1, 2, 17, 1, 2, 2, 0, 1, 1]), [2, 0, 2, 3, 0, -1, 2, 3, 0, -1, 2])
+        self.assertEqual(answers([0, 1, 1, 17, 1, 1, 0, 1]), [2, 0, 1, 2, 0, 1, 2, 0, 1])
+        self.assertEqual(answers([17, 1, 1, 0, 18, 1, 1, 22, 5, 14, 20, 1]), [1, -1] * 6)
+        self.assertEqual(answers([17, 1, 1, 3, 0, 0, 0, 1]), [1, -1] * 2)
+        self.assertEqual(answers([0, 2, 1, 2, 18, 2, 1, 18, 1, 2, 18, 1, 1, 1]),
+                         [2, 0, 2, 2, 0, 1, 2, 0, 1, 1, -3, 3, 0, 1, 2])
+        self.assertEqual(answers([0, 2, 1, 2, 22, 1, 19, 0, 22, 2, 22, 0, 20, 21, 2, 1, 2, 21, 0, 1]),
+                         [2, 0, 2, 1, -8, 2, 0, 1, 3, 0, 1, 0, 1, -4, 2, 0, 1, 2, 0, 1, 1, -2, 3, 0, 1, 2])
+
+    def test_calls_with_a_list_or_none(self):
+        self.assertEqual(answers([0, 2, 1, 2, 12, 1, 51, 13, 2, 2, 1, 14, 12, 0, 1]),
+                         [2, 0, 2, 3, 0, -2, -1, 3, 0, 0, 1, 2, 0, 1, 1, -7, 3, 0, 1, 2])
+        self.assertEqual(answers([0, 1, 1, 15, 3, 117, 112, 49, 16, 3, 117, 112, 49, 16, 5, 101, 118, 101, 110, 49]),
+                         [2, 0, 1, 2, 0, 0, 3, 0, 0, 1, 2, 0, 1])
 
     def test_whole_numbers_in_a_list(self):
         given = answers(some_calls())

@@ -4,22 +4,10 @@ import math
 import random
 import unittest
 
-from tests.helper import all_rows, come_to, cut, in_order, last, on, rising, run, run_many, text, turn, walk
-
-
-def random_row(chance, size):
-    return [card * chance.choice((1, -1)) for card in chance.sample(rising(size), size)]
-
-
-def random_end(chance, row):
-    """Some row that can be come to, by many cuts and turns."""
-    size = len(row)
-    here = row
-    for step in range(6 * size):
-        here = cut(here, chance.randrange(size))
-        if size > 1:
-            here = turn(here, 2)
-    return cut(here, chance.randrange(size))
+from tests.helper import (
+    all_rows, come_to, cut, decimal, in_order, last, on, random_end, random_row, rising, run, run_many, text, turn,
+    walk,
+)
 
 
 def place_of(row, card):
@@ -64,14 +52,6 @@ def plain_way(row, other):
         else:
             way[-1] = (way[-1] + step) % size
     return way
-
-
-def decimal(answer):
-    """The number that stands behind the 0 in decimal."""
-    assert answer[0] == 0
-    digits = bytes(answer[1:]).decode("ascii")
-    assert digits == str(int(digits))
-    return int(digits)
 
 
 class Can(unittest.TestCase):

@@ -1,45 +1,35 @@
 """Handlings told as texts: what they do, or why they are refused."""
 
 from turnedcards.moves import cut, deal, every, followed, nothing, repeated, turn, undone
-from turnedcards.refusals import FAULT, TEXT_TOO_LONG
-from turnedcards.words import pieces_of
+from turnedcards.texts import DEEPEST, refusal_of
 
-MOST_BYTES = 600
 MOST_TIMES = 1000000000000
-DEEPEST = 20
 
 # Stands in the place of a number of times.
 BACK = -1
 
 
 class Reading:
-    """What is read of one handling's text; refusal is 0 if it is not refused.
+    """What is read of a handling's text, or of several handlings' one text.
 
-    wanted tells what must come next: a "handling" (or a bracket's end, or
-    the text's end), the "amount" of the last word, or the "bracket" of the
-    last back or number of times. outer has, for each bracket that is not
-    ended yet, the move ahead of it and its number of times.
+    refusal is 0 if it is not refused. moves has what the handlings ahead of
+    the last one do, move what the last one does. wanted tells what must come
+    next: a "handling" (or a bracket's end, or the text's end), the "amount"
+    of the last word, or the "bracket" of the last back or number of times.
+    outer has, for each bracket that is not ended yet, the move ahead of it
+    and its number of times.
     """
 
-    def __init__(self, size):
+    def __init__(self, size, several):
         self.size = size
+        self.several = several
         self.refusal = 0
-        self.pieces = []
+        self.moves = []
         self.move = nothing(size)
         self.wanted = "handling"
         self.word = ""
         self.times = 0
         self.outer = []
-
-    def take_text(self, text):
-        pieces = pieces_of(text)
-        self.pieces = pieces
-        for piece in pieces:
-            if not self.take(piece):
-                self.refusal = FAULT - piece.place
-                return
-        if self.wanted != "handling" or len(self.outer) > 0:
-            self.refusal = FAULT - len(text)
 
     def take(self, piece):
         """Takes the next piece; tells whether it can stand here."""
@@ -51,7 +41,12 @@ class Reading:
             return self.take_times(piece.number)
         if piece.kind == "word":
             return self.take_word(piece.word)
+        if piece.kind == ";":
+            return self.end_handling()
         return piece.kind == ")" and self.end_bracket()
+
+    def may_end(self):
+        return self.wanted == "handling" and len(self.outer) == 0
 
     def take_amount(self, piece):
         if piece.kind != "number" or piece.number > self.size:
@@ -105,15 +100,27 @@ class Reading:
             self.add_move(repeated(within, ahead[1]))
         return True
 
+    def end_handling(self):
+        if not self.several or len(self.outer) > 0:
+            return False
+        self.moves.append(self.move)
+        self.move = nothing(self.size)
+        return True
+
     def add_move(self, move):
         self.move = followed(self.move, move)
 
 
 def read_handling(text, size):
-    """The reading of a handling's text, for so many cards."""
-    reading = Reading(size)
-    if len(text) > MOST_BYTES:
-        reading.refusal = TEXT_TOO_LONG
-    else:
-        reading.take_text(text)
+    """The reading of one handling's text, for so many cards."""
+    reading = Reading(size, False)
+    reading.refusal = refusal_of(text, reading)
+    return reading
+
+
+def read_handlings(text, size):
+    """The reading of a text of handlings with ; between each two; moves has what they all do."""
+    reading = Reading(size, True)
+    reading.refusal = refusal_of(text, reading)
+    reading.moves.append(reading.move)
     return reading

@@ -64,6 +64,18 @@ def moved(row, move):
     return [-row[place] if turned == 1 else row[place] for place, turned in move]
 
 
+def move_between(row, other):
+    """The move that leads from the one row to the other."""
+    places = {}
+    for place, card in enumerate(row):
+        places[abs(card)] = place
+    move = []
+    for card in other:
+        place = places[abs(card)]
+        move.append((place, 0 if row[place] == card else 1))
+    return move
+
+
 def round_length(move, start):
     """How many times the move is done until what stands at start is there again, unturned."""
     place = move[start][0]

@@ -34,3 +34,8 @@ def sums_of(row):
 def odd_differences(row, other):
     """For each card, rising: 1 if its sums in the two rows differ by an odd number, else 0."""
     return [(one + two) % 2 for one, two in zip(sums_of(row), sums_of(other))]
+
+
+def with_sides(numbers, sides):
+    """The row of these cards' numbers with these sides."""
+    return [-number if side == 1 else number for number, side in zip(numbers, sides)]

@@ -1,6 +1,6 @@
 """Ways: lists of cuts, with turn 2 between each two of them."""
 
-from turnedcards.moves import cut, moved, turn
+from turnedcards.moves import cut, followed, moved, nothing, turn
 from turnedcards.rows import odd_differences, side_of
 
 
@@ -83,3 +83,39 @@ def walked(row, way):
         two_turned = moved(result, turn(size, 2))
         result = moved(two_turned, cut(size, number))
     return result
+
+
+def fewest_cuts(size):
+    """For each move that cuts with turn 2 behind each make: the cuts, as few as can be, the first of these."""
+    start = tuple(nothing(size))
+    cuts = {start: ()}
+    if size == 1:
+        return cuts
+    steps = [followed(cut(size, number), turn(size, 2)) for number in range(size)]
+    level = [start]
+    while len(level) > 0:
+        further = []
+        # Levels are in the order of their cuts: what comes first to a move is its first way.
+        for move in level:
+            for number, step in enumerate(steps):
+                there = tuple(followed(move, step))
+                if there not in cuts:
+                    cuts[there] = cuts[move] + (number,)
+                    further.append(there)
+        level = further
+    return cuts
+
+
+def turns_and_cuts(way):
+    return (len(way), way)
+
+
+def least_way(move, cuts):
+    """The first of the ways with fewest turns that do the move."""
+    size = len(move)
+    ways = []
+    for number in range(size):
+        # The last cut is undone by cutting on, till all are through.
+        before = tuple(followed(move, cut(size, size - number)))
+        ways.append(cuts[before] + (number,))
+    return min(ways, key=turns_and_cuts)

@@ -53,10 +53,15 @@ def number_of(spelt):
     return number
 
 
-def is_number(spelt):
-    if len(spelt) > MOST_DIGITS:
+def is_decimal(spelt):
+    """Whether these are digits alone, with no 0 ahead of others."""
+    if len(spelt) == 0 or not all([kind_of(byte) == "number" for byte in spelt]):
         return False
     return len(spelt) == 1 or spelt[0] != FIRST_DIGIT
+
+
+def is_number(spelt):
+    return len(spelt) <= MOST_DIGITS and is_decimal(spelt)
 
 
 def piece_at(text, place, end):
