@@ -17,7 +17,8 @@ class Condition:
     wanted tells what must come next: a "claim" (with any not and brackets
     ahead of it), the "card" of the last claim, or a "joint" (and, or, a
     bracket's end, the text's end). waiting has the brackets that are not
-    ended, and each not, and, or whose last claim is not whole yet.
+    ended, and each not, and, or that is not among the steps yet, as what it
+    is said of may still go on.
     """
 
     def __init__(self, size):
@@ -63,12 +64,8 @@ class Condition:
         self.cards.append(piece.number)
         if len(self.cards) == CARDS_NAMED[self.word]:
             self.steps.append((self.word, tuple(self.cards)))
-            self.end_claim()
+            self.wanted = "joint"
         return True
-
-    def end_claim(self):
-        self.settle("not")
-        self.wanted = "joint"
 
     def take_joint(self, word):
         if word == ")":
@@ -85,7 +82,6 @@ class Condition:
             return False
         self.settle("or")
         self.waiting.pop()
-        self.end_claim()
         return True
 
     def settle(self, word):
